@@ -1,0 +1,1 @@
+"""Turnarrows: arrows that turn at each leaving."""
