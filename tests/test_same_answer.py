@@ -3,39 +3,26 @@
 import copy
 import unittest
 
-from tests.things import great_houses, no_rooms_of, things_of_every_kind
-from turnarrows.errors import ArrowError
-from turnarrows.houses import (
-    come_to, doors_many, gates_from, house_of, is_balanced, is_house, is_joined, is_open, is_shut, trap, trap_holds,
-)
-
-OF_HOUSES = (is_open, is_shut, is_joined, is_balanced, trap, doors_many, is_house)
-
-CHOSEN = (
-    ((0,),), ((-1,),), ((1,), (0,)), ((1,), (-1,)), ((-2,), (0,)), ((0,), (1,)), ((1, 1), (0,)),
-    ((1, 2), (2, 0), (0, 1)), ((1, 2), (2, 0), (0, -3)), ((1,), (2,), (2,)),
-) + tuple(great_houses())
+from tests.asked import answer, questions
+from turnarrows.houses import come_to, house_of, is_house, is_open, trap, trap_holds
+from turnarrows.rests import is_rest, left_by, rest
+from turnarrows.walks import out, walk, walk_wrong
 
 
-def answer(asked, handed):
-    """What is told, or the class and fields of the refusal."""
-    try:
-        return asked(*handed)
-    except ArrowError as error:
-        return (type(error), vars(error))
-
-
-def questions():
-    asked = [(ask, [house]) for house in CHOSEN for ask in OF_HOUSES]
-    for house in CHOSEN:
-        asked.append((house_of, [list(house)]))
-        asked.append((house_of, [list(house) + [(0, len(house) + 2)]]))
-        asked.extend((ask, [house, room]) for ask in (come_to, gates_from) for room in range(len(house)))
-        asked.extend((ask, [house, thing]) for ask in (come_to, gates_from) for thing in no_rooms_of(house))
-        asked.extend((trap_holds, [house, thing]) for thing in [(0,), (0, 1), (1, 2), *things_of_every_kind()])
-    asked.extend((is_house, [thing]) for thing in things_of_every_kind())
-    asked.extend((house_of, [[thing, (0,)]]) for thing in things_of_every_kind())
-    return asked
+def spoil(told):
+    """Changes whatever can be changed in what was told."""
+    if isinstance(told, tuple):
+        for part in told:
+            spoil(part)
+    if isinstance(told, list):
+        for part in told:
+            spoil(part)
+        told.append("spoilt")
+        told.reverse()
+    if isinstance(told, dict):
+        for part in told.values():
+            spoil(part)
+        told["spoilt"] = True
 
 
 class SameAnswerTest(unittest.TestCase):
@@ -47,9 +34,21 @@ class SameAnswerTest(unittest.TestCase):
         self.assertEqual(first, backwards[::-1])
         self.assertEqual(first, again)
 
-    def test_asked_again_at_once(self):
+    def test_asked_again_behind_what_was_told_was_spoilt(self):
         for ask, handed in questions():
-            self.assertEqual(answer(ask, handed), answer(ask, handed), (ask, handed))
+            kept = copy.deepcopy(handed)
+            told = answer(ask, handed)
+            right = copy.deepcopy(told)
+            spoil(told)
+            self.assertEqual(handed, kept, (ask, handed))
+            self.assertEqual(answer(ask, handed), right, (ask, handed))
+
+    def test_what_is_told_stays_when_what_was_handed_in_is_spoilt(self):
+        for ask, handed in questions():
+            told = answer(ask, handed)
+            right = copy.deepcopy(told)
+            spoil(handed)
+            self.assertEqual(told, right, ask)
 
     def test_what_is_handed_in_is_as_it_was(self):
         for ask, handed in questions():
@@ -82,6 +81,17 @@ class SameAnswerTest(unittest.TestCase):
         self.assertIs(trap_holds(house, trap(house)), True)
         self.assertIs(trap_holds(house, come_to(house, 1)), True)
         self.assertEqual(come_to(house, come_to(house, 3)[-1]), (0, 1, 2, 3))
+
+    def test_walks_and_rests_may_be_handed_in_again(self):
+        house = house_of([(1, -1), (0, 2, -2), (0, 0, 1)])
+        arrows, places = walk(house, (0, 0, 0), 2, 50)
+        self.assertIsNone(walk_wrong(house, (0, 0, 0), 2, places))
+        self.assertEqual(out(house, arrows, 0)[0], walk(house, arrows, 0, 50)[1][-1])
+        gates, behind, leavings = rest(house, arrows, (3, 0, 4))
+        self.assertIs(is_rest(house, arrows, (3, 0, 4), leavings), True)
+        stood = left_by(house, behind, (1, 1, 1), [0, 2])
+        self.assertEqual(rest(house, stood[0], stood[1])[1], rest(house, behind, (1, 1, 1))[1])
+        self.assertEqual(sum(gates), 7)
 
 
 if __name__ == "__main__":

@@ -1,6 +1,9 @@
 """What several tests need: things of every kind, many small houses, and plain second answers."""
 
 from itertools import combinations_with_replacement, product
+from random import Random
+
+from turnarrows.errors import ArrowError
 
 GATES = (-3, -2, -1)
 
@@ -99,3 +102,126 @@ def gates_met(house, room):
 
 def no_gate_rooms(house):
     return tuple(room for room in range(len(house)) if gates_met(house, room) == ())
+
+
+def no_arrows_of(house):
+    """What is no arrows of the house, of every kind."""
+    sizes = [len(doors) for doors in house]
+    noughts = (0,) * len(house)
+    wrong = [
+        noughts + (0,), noughts[1:], list(noughts), [0], {}, dict(enumerate(noughts)), None, True, False, 0, 1, -1,
+        10 ** 99, "", "0" * len(house), "arrows", (), (noughts,), house, [noughts],
+        deep(lambda thing: [thing], 20), deep(lambda thing: (thing,), 20), deep(lambda thing: {0: thing}, 20),
+    ]
+    for room, size in enumerate(sizes):
+        for number in (size, size + 1, -1, -size, 10 ** 99, -(10 ** 99), True, False, None, "", "0", [], [0], (), (0,), {}):
+            wrong.append(noughts[:room] + (number,) + noughts[room + 1:])
+    return wrong
+
+
+def no_walkers_of(house, most=100):
+    """What is no walkers of the house, of every kind."""
+    noughts = (0,) * len(house)
+    wrong = [
+        noughts + (0,), noughts[1:], list(noughts), [0], {}, dict(enumerate(noughts)), None, True, False, 0, 1, -1,
+        most, 10 ** 99, "", "0" * len(house), "walkers", (), (noughts,), house, [noughts],
+        deep(lambda thing: [thing], 20), deep(lambda thing: (thing,), 20), deep(lambda thing: {0: thing}, 20),
+    ]
+    for room in range(len(house)):
+        for number in (most + 1, -1, 10 ** 99, -(10 ** 99), True, False, None, "", "0", [], [0], (), (0,), {}):
+            wrong.append(noughts[:room] + (number,) + noughts[room + 1:])
+    return wrong
+
+
+def all_arrows(house):
+    return list(product(*[range(len(doors)) for doors in house]))
+
+
+def some_arrows(house, most=4):
+    """At most so many arrows of the house, the first and the last ones among them."""
+    many = 1
+    for doors in house:
+        many *= len(doors)
+    chosen = range(many) if many <= most else sorted({number * (many - 1) // (most - 1) for number in range(most)})
+    told = []
+    for number in chosen:
+        arrows = []
+        for doors in reversed(house):
+            number, arrow = divmod(number, len(doors))
+            arrows.append(arrow)
+        told.append(tuple(reversed(arrows)))
+    return told
+
+
+def drawn_houses(seed, many, rooms_most=6, doors_most=4, gates=GATES, none=()):
+    """So many houses, always the same ones for a seed; a door leads to a gate of `gates`, or to any room."""
+    draw = Random(seed)
+    told = []
+    while len(told) < many:
+        rooms = draw.randint(1, rooms_most)
+        ways = list(range(rooms)) * 2 + list(gates)
+        house = tuple(tuple(draw.choice(ways) for _ in range(draw.randint(1, doors_most))) for _ in range(rooms))
+        if house not in none:
+            told.append(house)
+    return told
+
+
+def is_way_out(house):
+    return no_gate_rooms(house) == ()
+
+
+def open_houses():
+    """Houses from each room of which a gate can be come to: small ones, drawn ones, and greater ones."""
+    small = [house for number, house in enumerate(small_houses()) if number % 23 == 0]
+    drawn = drawn_houses(11, 60) + drawn_houses(12, 20, rooms_most=10, doors_most=6)
+    return [house for house in small + drawn + list(great_houses()) if is_way_out(house)]
+
+
+def trapped_houses():
+    """Houses that are not open: shut ones and such as are neither."""
+    return [house for house in drawn_houses(13, 60, gates=(-1,)) + list(great_houses()) if not is_way_out(house)]
+
+
+def shut_houses():
+    small = [house for number, house in enumerate(small_houses()) if number % 3 == 0]
+    told = small + drawn_houses(14, 60, gates=()) + drawn_houses(15, 10, rooms_most=9, doors_most=3, gates=())
+    return [house for house in told + list(great_houses()) if not any(door < 0 for doors in house for door in doors)]
+
+
+def refusal(asked, *handed):
+    """The class and the fields of what the call is refused with; None where it is not."""
+    try:
+        asked(*handed)
+    except ArrowError as error:
+        return (type(error), vars(error))
+    return None
+
+
+def one_step(house, arrows, room):
+    """The words of the document on one leaving, without a remainder."""
+    door = arrows[room]
+    turned = list(arrows)
+    turned[room] = door + 1 if door + 1 < len(house[room]) else 0
+    return (tuple(turned), house[room][door])
+
+
+def walked_out(house, arrows, room):
+    """By single steps: the gate, the arrows and the leavings."""
+    leavings = [0] * len(house)
+    place = room
+    while place >= 0:
+        leavings[place] += 1
+        arrows, place = one_step(house, arrows, place)
+    return (place, arrows, tuple(leavings))
+
+
+def all_led_out(house, arrows, walkers):
+    """One walker wholly behind the other, from the last room on: the gates, the arrows and the leavings."""
+    gates = [0, 0, 0]
+    leavings = [0] * len(house)
+    for room in reversed(range(len(house))):
+        for _ in range(walkers[room]):
+            gate, arrows, more = walked_out(house, arrows, room)
+            gates[-1 - gate] += 1
+            leavings = [one + other for one, other in zip(leavings, more)]
+    return (tuple(gates), arrows, tuple(leavings))

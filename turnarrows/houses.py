@@ -1,6 +1,6 @@
 """Houses: their form, what can be come to in them, and how their doors lie."""
 
-from turnarrows.errors import NoHouse, NoRoom
+from turnarrows.errors import NoHouse, NoRoom, NotOpen, NotShut
 from turnarrows.kinds import is_tuple_within, is_whole_within
 
 MOST_ROOMS = 10
@@ -76,8 +76,19 @@ def is_open(house):
     return trap(house) == ()
 
 
+def refuse_not_open(house):
+    rooms = trap(house)
+    if rooms != ():
+        raise NotOpen(rooms[0])
+
+
 def is_shut(house):
     return all([min(doors) >= 0 for doors in house])
+
+
+def refuse_not_shut(house):
+    if not is_shut(house):
+        raise NotShut()
 
 
 def trap_holds(house, thing):

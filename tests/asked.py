@@ -1,0 +1,68 @@
+"""Many questions to all modules, made anew each time: functions with what is handed in to them."""
+
+from tests.things import great_houses, no_arrows_of, no_rooms_of, no_walkers_of, some_arrows, things_of_every_kind
+from turnarrows.arrows import arrows_many, is_arrows, last_doors, turned_at
+from turnarrows.errors import ArrowError
+from turnarrows.houses import (
+    come_to, doors_many, gates_from, house_of, is_balanced, is_house, is_joined, is_open, is_shut, trap, trap_holds,
+)
+from turnarrows.rests import doors_used, is_rest, left_by, rest
+from turnarrows.walks import out, step, walk, walk_wrong
+
+OF_HOUSES = (is_open, is_shut, is_joined, is_balanced, trap, doors_many, is_house, arrows_many)
+
+CHOSEN = (
+    ((0,),), ((-1,),), ((1,), (0,)), ((1,), (-1,)), ((-2,), (0,)), ((0,), (1,)), ((1, 1), (0,)),
+    ((1, 2), (2, 0), (0, 1)), ((1, 2), (2, 0), (0, -3)), ((1,), (2,), (2,)),
+) + tuple(great_houses())
+
+
+def answer(asked, handed):
+    """What is told, or the class and fields of the refusal."""
+    try:
+        return asked(*handed)
+    except ArrowError as error:
+        return (type(error), vars(error))
+
+
+def spread(things, most):
+    """At most so many of the things, from everywhere among them."""
+    return things[::max(1, len(things) // most)]
+
+
+def of_houses(house):
+    asked = [(ask, [house]) for ask in OF_HOUSES]
+    asked.append((house_of, [list(house)]))
+    asked.append((house_of, [list(house) + [(0, len(house) + 2)]]))
+    asked.extend((ask, [house, room]) for ask in (come_to, gates_from) for room in range(len(house)))
+    asked.extend((ask, [house, thing]) for ask in (come_to, gates_from) for thing in no_rooms_of(house))
+    asked.extend((trap_holds, [house, thing]) for thing in [(0,), (0, 1), (1, 2), *things_of_every_kind()])
+    return asked
+
+
+def of_walkers(house):
+    asked = []
+    rooms = [*range(len(house)), *spread(no_rooms_of(house), 4)]
+    rows = [(0,) * len(house), (2,) * len(house), *spread(no_walkers_of(house), 4)]
+    for arrows in some_arrows(house, 3) + spread(no_arrows_of(house), 5):
+        asked.extend([(is_arrows, [house, arrows]), (last_doors, [house, arrows])])
+        asked.append((doors_used, [house, arrows, (7,) * len(house)]))
+        for room in rooms:
+            asked.extend((ask, [house, arrows, room]) for ask in (turned_at, step, out))
+            asked.append((walk, [house, arrows, room, 30]))
+            asked.extend((walk_wrong, [house, arrows, room, places]) for places in ([0], [1, [2]], None, {0: [1]}))
+        for walkers in rows:
+            asked.append((rest, [house, arrows, walkers]))
+            asked.extend((left_by, [house, arrows, walkers, order]) for order in ([0], [0, 0, [1]], []))
+            asked.extend((is_rest, [house, arrows, walkers, thing]) for thing in ((0,) * len(house), [0], {0: [0]}))
+    return asked
+
+
+def questions():
+    asked = []
+    for house in CHOSEN:
+        asked.extend(of_houses(house))
+        asked.extend(of_walkers(house))
+    asked.extend((is_house, [thing]) for thing in things_of_every_kind())
+    asked.extend((house_of, [[thing, (0,)]]) for thing in things_of_every_kind())
+    return asked
