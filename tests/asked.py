@@ -1,12 +1,16 @@
 """Many questions to all modules, made anew each time: functions with what is handed in to them."""
 
 from tests.things import great_houses, no_arrows_of, no_rooms_of, no_walkers_of, some_arrows, things_of_every_kind
+from turnarrows.again import again_after, again_many, all_again, comes_again, sent
 from turnarrows.arrows import arrows_many, is_arrows, last_doors, turned_at
+from turnarrows.back import back_step, back_walk, came_from, led_back, led_back_all, round_back
 from turnarrows.errors import ArrowError
 from turnarrows.houses import (
     come_to, doors_many, gates_from, house_of, is_balanced, is_house, is_joined, is_open, is_shut, trap, trap_holds,
 )
 from turnarrows.rests import doors_used, is_rest, left_by, rest
+from turnarrows.rounds import in_round, round_of, turns_of, why_not, why_not_holds
+from turnarrows.trees import ring_holds, ring_of, row_holds, row_of
 from turnarrows.walks import out, step, walk, walk_wrong
 
 OF_HOUSES = (is_open, is_shut, is_joined, is_balanced, trap, doors_many, is_house, arrows_many)
@@ -58,11 +62,33 @@ def of_walkers(house):
     return asked
 
 
+def papers_of(house):
+    return [("gone", 1), ("ring", (0,)), ["ring", [0]], ("ring", [0]), {"gone": [1]}, [0], list(range(len(house)))]
+
+
+def of_rounds(house):
+    asked = [(again_many, [house]), (all_again, [house])]
+    rooms = [*range(len(house)), *spread(no_rooms_of(house), 4)]
+    asked.extend((sent, [house, room]) for room in rooms)
+    for arrows in some_arrows(house, 3) + spread(no_arrows_of(house), 5):
+        asked.extend((ask, [house, arrows]) for ask in (comes_again, row_of, ring_of))
+        asked.extend((ask, [house, arrows, paper]) for ask in (row_holds, ring_holds) for paper in papers_of(house))
+        asked.extend((led_back_all, [house, arrows, (many,) * len(house)]) for many in (0, 2, 101))
+        for room in rooms:
+            asked.extend((ask, [house, arrows, room]) for ask in (
+                again_after, came_from, led_back, back_walk, round_back, round_of, turns_of, in_round, why_not,
+            ))
+            asked.append((back_step, [house, arrows, 0, room]))
+            asked.extend((why_not_holds, [house, arrows, room, paper]) for paper in papers_of(house))
+    return asked
+
+
 def questions():
     asked = []
     for house in CHOSEN:
         asked.extend(of_houses(house))
         asked.extend(of_walkers(house))
+        asked.extend(of_rounds(house))
     asked.extend((is_house, [thing]) for thing in things_of_every_kind())
     asked.extend((house_of, [[thing, (0,)]]) for thing in things_of_every_kind())
     return asked

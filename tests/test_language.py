@@ -112,6 +112,7 @@ class WritingTest(unittest.TestCase):
                 self.assertEqual(node.orelse, [], (name, node.lineno))
             if isinstance(node, ast.Assign):
                 self.assertEqual(len(node.targets), 1, (name, node.lineno))
+                self.assertNotIsInstance(node.targets[0], (ast.Tuple, ast.List), (name, node.lineno))
             if isinstance(node, ast.Try):
                 self.assertEqual(node.finalbody, [], (name, node.lineno))
                 self.assertTrue(all(handler.type for handler in node.handlers), (name, node.lineno))

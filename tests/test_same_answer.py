@@ -4,8 +4,12 @@ import copy
 import unittest
 
 from tests.asked import answer, questions
+from turnarrows.again import all_again, comes_again, sent
+from turnarrows.back import back_walk, led_back, round_back
 from turnarrows.houses import come_to, house_of, is_house, is_open, trap, trap_holds
 from turnarrows.rests import is_rest, left_by, rest
+from turnarrows.rounds import in_round, why_not, why_not_holds
+from turnarrows.trees import ring_holds, ring_of, row_holds, row_of
 from turnarrows.walks import out, walk, walk_wrong
 
 
@@ -92,6 +96,21 @@ class SameAnswerTest(unittest.TestCase):
         stood = left_by(house, behind, (1, 1, 1), [0, 2])
         self.assertEqual(rest(house, stood[0], stood[1])[1], rest(house, behind, (1, 1, 1))[1])
         self.assertEqual(sum(gates), 7)
+
+    def test_papers_rows_and_rings_may_be_handed_in_again(self):
+        house = house_of([(1, -1), (0, 2, -2), (0, 0, 1)])
+        for number, arrows in zip(sent(house, 1), all_again(house)):
+            behind = all_again(house)[number]
+            self.assertIs(comes_again(house, behind), True)
+            self.assertEqual(led_back(house, behind, 1)[0], arrows)
+            self.assertIs(row_holds(house, behind, row_of(house, behind)), True)
+            self.assertIsNone(walk_wrong(house, arrows, 1, back_walk(house, behind, 1)))
+        self.assertIs(ring_holds(house, (1, 1, 0), ring_of(house, (1, 1, 0))), True)
+        shut = ((0, 1), (0, 2), (0, 1))
+        self.assertIs(why_not_holds(shut, (0, 0, 0), 0, why_not(shut, (0, 0, 0), 0)), True)
+        state = walk(shut, (0, 0, 0), 0, 30)
+        self.assertIs(in_round(shut, state[0], state[1][-1]), True)
+        self.assertIs(in_round(shut, *round_back(shut, state[0], state[1][-1])), True)
 
 
 if __name__ == "__main__":

@@ -69,7 +69,13 @@ def gates_from(house, room):
 
 
 def trap(house):
-    return tuple([room for room in range(len(house)) if gates_from(house, room) == ()])
+    # A room with a door out, or to a room that fell away, falls away, till no more does.
+    staying = list(range(len(house)))
+    many = len(staying) + 1
+    while len(staying) < many:
+        many = len(staying)
+        staying = [room for room in staying if all([door in staying for door in house[room]])]
+    return tuple(staying)
 
 
 def is_open(house):

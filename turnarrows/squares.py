@@ -57,6 +57,18 @@ def determinant(rows):
     return 0 if told is None else told[1]
 
 
+def common_divisor(numbers):
+    """The greatest whole number that divides all of them; 0 where there is no number but 0."""
+    told = 0
+    for number in numbers:
+        other = abs(number)
+        while other != 0:
+            over = told % other
+            told = other
+            other = over
+    return told
+
+
 def less(row, times, other):
     return [number - times * over for number, over in zip(row, other)]
 
@@ -109,3 +121,9 @@ def doors_square(house):
         row[room] += len(doors)
         rows.append(row)
     return rows
+
+
+def least_times(rows, at):
+    """How often, once at least, the row with 1 at `at` and else 0 is to be taken to be a whole sum of the rows."""
+    told = solved(turned_over(rows), [1 if number == at else 0 for number in range(len(rows))])
+    return abs(told[1]) // common_divisor(told[0] + [told[1]])
