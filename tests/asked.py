@@ -8,10 +8,15 @@ from turnarrows.errors import ArrowError
 from turnarrows.houses import (
     come_to, doors_many, gates_from, house_of, is_balanced, is_house, is_joined, is_open, is_shut, trap, trap_holds,
 )
+from turnarrows.likes import (
+    are_alike, behind_gives, how_many_kinds, kind_sizes, least_like, like_none, settled, why_alike,
+)
 from turnarrows.rests import doors_used, is_rest, left_by, rest
 from turnarrows.rounds import in_round, round_of, turns_of, why_not, why_not_holds
+from turnarrows.shares import share_of, shares, shares_hold
 from turnarrows.trees import ring_holds, ring_of, row_holds, row_of
 from turnarrows.walks import out, step, walk, walk_wrong
+from turnarrows.weights import even, most_off, off_by, value, weights
 
 OF_HOUSES = (is_open, is_shut, is_joined, is_balanced, trap, doors_many, is_house, arrows_many)
 
@@ -83,12 +88,32 @@ def of_rounds(house):
     return asked
 
 
+def of_shares(house):
+    asked = [(kind_sizes, [house]), (how_many_kinds, [house])]
+    rooms = [*range(len(house)), *spread(no_rooms_of(house), 4)]
+    rows = [(0,) * len(house), (10 ** 30,) * len(house), (100,) * len(house), *spread(no_walkers_of(house, 10 ** 30), 4)]
+    asked.extend((like_none, [house, room]) for room in rooms)
+    asked.extend((ask, [house, row]) for ask in (least_like, settled) for row in rows)
+    asked.extend((behind_gives, [house, row, tuple(range(-1, len(house) - 1))]) for row in rows)
+    asked.extend((ask, [house, one, other]) for ask in (are_alike, why_alike) for one in rows for other in rows)
+    for gate in (-1, -2, -3):
+        asked.extend((ask, [house, gate]) for ask in (shares, weights, most_off))
+        asked.extend((shares_hold, [house, gate, thing]) for thing in (((1, 1),) * len(house), ([1, 1],), [(1, 1)], None))
+        asked.extend((share_of, [house, gate, row]) for row in rows)
+        for arrows in some_arrows(house, 2) + spread(no_arrows_of(house), 3):
+            asked.extend((value, [house, gate, arrows, row, 7]) for row in rows)
+            asked.extend((off_by, [house, gate, arrows, row]) for row in rows)
+            asked.extend((even, [house, gate, arrows, room, many]) for room in rooms for many in (0, 3, 101, [4]))
+    return asked
+
+
 def questions():
     asked = []
     for house in CHOSEN:
         asked.extend(of_houses(house))
         asked.extend(of_walkers(house))
         asked.extend(of_rounds(house))
+        asked.extend(of_shares(house))
     asked.extend((is_house, [thing]) for thing in things_of_every_kind())
     asked.extend((house_of, [[thing, (0,)]]) for thing in things_of_every_kind())
     return asked

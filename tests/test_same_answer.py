@@ -7,8 +7,10 @@ from tests.asked import answer, questions
 from turnarrows.again import all_again, comes_again, sent
 from turnarrows.back import back_walk, led_back, round_back
 from turnarrows.houses import come_to, house_of, is_house, is_open, trap, trap_holds
+from turnarrows.likes import are_alike, behind_gives, least_like, settled, why_alike
 from turnarrows.rests import is_rest, left_by, rest
 from turnarrows.rounds import in_round, why_not, why_not_holds
+from turnarrows.shares import shares, shares_hold
 from turnarrows.trees import ring_holds, ring_of, row_holds, row_of
 from turnarrows.walks import out, walk, walk_wrong
 
@@ -111,6 +113,15 @@ class SameAnswerTest(unittest.TestCase):
         state = walk(shut, (0, 0, 0), 0, 30)
         self.assertIs(in_round(shut, state[0], state[1][-1]), True)
         self.assertIs(in_round(shut, *round_back(shut, state[0], state[1][-1])), True)
+
+    def test_shares_and_rows_may_be_handed_in_again(self):
+        house = house_of([(1, -1), (0, 2, -2), (0, 0, 1)])
+        self.assertIs(shares_hold(house, -2, shares(house, -2)), True)
+        walkers = (10 ** 30, 5, 0)
+        behind, gives = settled(house, walkers)
+        self.assertEqual(behind_gives(house, walkers, gives), behind)
+        self.assertEqual(why_alike(house, walkers, behind), gives)
+        self.assertIs(are_alike(house, least_like(house, walkers), behind), True)
 
 
 if __name__ == "__main__":
