@@ -4,6 +4,8 @@ from tests.things import great_houses, no_arrows_of, no_rooms_of, no_walkers_of,
 from turnarrows.again import again_after, again_many, all_again, comes_again, sent
 from turnarrows.arrows import arrows_many, is_arrows, last_doors, turned_at
 from turnarrows.back import back_step, back_walk, came_from, led_back, led_back_all, round_back
+from turnarrows.circles import tour_at, tours, tours_many
+from turnarrows.desk import Desk
 from turnarrows.errors import ArrowError
 from turnarrows.houses import (
     come_to, doors_many, gates_from, house_of, is_balanced, is_house, is_joined, is_open, is_shut, trap, trap_holds,
@@ -14,6 +16,8 @@ from turnarrows.likes import (
 from turnarrows.rests import doors_used, is_rest, left_by, rest
 from turnarrows.rounds import in_round, round_of, turns_of, why_not, why_not_holds
 from turnarrows.shares import share_of, shares, shares_hold
+from turnarrows.texts import read, shown
+from turnarrows.tours import come_round, doors_by, is_tour, on_ring, tour_of
 from turnarrows.trees import ring_holds, ring_of, row_holds, row_of
 from turnarrows.walks import out, step, walk, walk_wrong
 from turnarrows.weights import even, most_off, off_by, value, weights
@@ -107,6 +111,28 @@ def of_shares(house):
     return asked
 
 
+def said(rows):
+    """What a new desk answers to the rows, one behind the other."""
+    desk = Desk()
+    return [answer(desk.say, [row]) for row in rows]
+
+
+def of_tours(house):
+    asked = [(ask, [house]) for ask in (tours_many, tours, shown)]
+    asked.append((read, [shown(house)]))
+    asked.append((read, [shown(house) + " x"]))
+    rooms = [*range(len(house)), *spread(no_rooms_of(house), 4)]
+    for arrows in some_arrows(house, 3) + spread(no_arrows_of(house), 3):
+        asked.extend((ask, [house, arrows, room]) for ask in (tour_of, on_ring, come_round) for room in rooms)
+    for ask in (is_tour, doors_by):
+        asked.extend((ask, [house, thing]) for thing in ([(0, 0)], [[0, 0]], [(0, 0), (1, 0)], None, {0: [(0, 0)]}))
+    asked.extend((tour_at, [house, thing]) for thing in (0, 1, -1, True, None, [0], 10 ** 99))
+    row = "house " + shown(house).replace("\n", " ; ")
+    asked.append((said, [[row, "put 0 3", "step 0", "arrow 0 0", "out", "gates", "back", "rest", "many", "tours", "why 0",
+                          "round 0", "led 0", "shares 1", "kinds", "least", "ring", "again", "shown", [], None, "back"]]))
+    return asked
+
+
 def questions():
     asked = []
     for house in CHOSEN:
@@ -114,6 +140,7 @@ def questions():
         asked.extend(of_walkers(house))
         asked.extend(of_rounds(house))
         asked.extend(of_shares(house))
+        asked.extend(of_tours(house))
     asked.extend((is_house, [thing]) for thing in things_of_every_kind())
     asked.extend((house_of, [[thing, (0,)]]) for thing in things_of_every_kind())
     return asked

@@ -108,6 +108,7 @@ class TopTest(unittest.TestCase):
                     over = above[node]
                     fits = isinstance(over, ast.Subscript) and isinstance(over.ctx, ast.Load)
                     fits = fits or isinstance(over, (ast.Compare, ast.For, ast.comprehension))
+                    fits = fits or (isinstance(over, ast.Attribute) and over.attr == "get")
                     self.assertTrue(fits, (name, node.lineno))
 
     def test_l16_drawn_from_where_it_is_defined_and_never_round(self):

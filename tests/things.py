@@ -225,3 +225,31 @@ def all_led_out(house, arrows, walkers):
             gates[-1 - gate] += 1
             leavings = [one + other for one, other in zip(leavings, more)]
     return (tuple(gates), arrows, tuple(leavings))
+
+
+def touring_houses(seed=16, many=40, rooms_most=5, doors_most=4):
+    """Balanced and joined houses: doors along closed walks through the rooms, in a drawn order."""
+    draw = Random(seed)
+    told = [((0,),), ((0, 0),), ((0,) * 6,), ((1,), (0,)), ((1, 2), (2, 0), (0, 1)), ring_house(10)]
+    while len(told) < many:
+        rooms = draw.randint(1, rooms_most)
+        doors = [[] for _ in range(rooms)]
+        for _ in range(draw.randint(1, 3)):
+            way = draw.sample(range(rooms), draw.randint(1, rooms))
+            for here, there in zip(way, way[1:] + way[:1]):
+                doors[here].append(there)
+        house = tuple(tuple(draw.sample(each, len(each))) for each in doors)
+        if all(1 <= len(each) <= doors_most for each in house) and all(all(row) for row in reached(house)):
+            told.append(house)
+    return told
+
+
+def no_touring_houses():
+    """Houses that are not balanced or not joined."""
+    told = [((0,), (1,)), ((-1,),), ((1,), (0,), (2,)), ((0, 1), (1,)), ((1,), (-1,)), ((1, 1), (0,)), path_house(10)]
+    for house in drawn_houses(17, 60, rooms_most=4) + shut_houses()[::6]:
+        leads = [door for doors in house for door in doors]
+        balanced = all(leads.count(room) == len(doors) for room, doors in enumerate(house)) and min(leads) >= 0
+        if not balanced or not all(all(row) for row in reached(house)):
+            told.append(house)
+    return told

@@ -2,7 +2,7 @@
 
 from turnarrows.errors import NoArrows
 from turnarrows.houses import refuse_no_room
-from turnarrows.kinds import is_tuple_within, is_whole_within
+from turnarrows.kinds import is_tuple_within, is_whole_within, with_at
 
 
 def is_arrows(house, thing):
@@ -29,8 +29,7 @@ def turned_by(house, arrows, turns):
 
 
 def turned_once(house, arrows, room, turn):
-    arrow = (arrows[room] + turn) % len(house[room])
-    return arrows[:room] + (arrow,) + arrows[room + 1:]
+    return with_at(arrows, room, (arrows[room] + turn) % len(house[room]))
 
 
 def turned_at(house, arrows, room):

@@ -1,4 +1,4 @@
-"""What sort of thing was handed in, asked without ever failing."""
+"""What sort of thing was handed in, asked without ever failing; and tuples with one thing otherwise."""
 
 
 def is_whole(thing):
@@ -12,3 +12,7 @@ def is_whole_within(thing, least, most):
 
 def is_tuple_within(thing, least, most):
     return isinstance(thing, tuple) and least <= len(thing) <= most
+
+
+def with_at(row, at, thing):
+    return row[:at] + (thing,) + row[at + 1:]

@@ -3,7 +3,7 @@
 from turnarrows.arrows import last_ways
 from turnarrows.houses import come_to, is_room_number, refuse_not_shut
 from turnarrows.kinds import is_tuple_within
-from turnarrows.squares import common_divisor, determinant, doors_square
+from turnarrows.squares import common_divisor, determinant, doors_square, minor
 from turnarrows.trees import is_ring, rings_of
 from turnarrows.walks import leave, refuse_no_state
 
@@ -64,10 +64,6 @@ def to_its_round(house, arrows, room):
         stroll.go_till_in(ring)
         ring = ring_without(house, stroll.turning, stroll.place)
     return stroll
-
-
-def minor(rows, chosen):
-    return [[rows[row][column] for column in chosen] for row in chosen]
 
 
 def turns_among(house, rooms):

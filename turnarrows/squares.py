@@ -6,6 +6,11 @@ def turned_over(rows):
     return [[row[at] for row in rows] for at in range(len(rows))]
 
 
+def minor(rows, chosen):
+    """The square of the chosen rows and columns alone."""
+    return [[rows[row][column] for column in chosen] for row in chosen]
+
+
 def row_with(rows, at):
     """The number of the first row, from `at` on, with another number than 0 at `at`; None where there is none."""
     for number in range(at, len(rows)):
