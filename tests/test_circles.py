@@ -113,6 +113,17 @@ class GreatTest(unittest.TestCase):
         self.assertEqual(refusal(tours, more), (TooGreat, {"many": 512, "most": 300}))
         self.assertEqual(refusal(tours, GREAT), (TooGreat, {"many": tours_many(GREAT), "most": 300}))
 
+    def test_just_three_hundred_and_few_more(self):
+        # Two rings of five rooms, walked both ways, that share room 0, and a door from room 8 to itself.
+        house = ((1, 4, 5, 8), (0, 2), (1, 3), (2, 4), (3, 0), (0, 6), (5, 7), (6, 8), (7, 0, 8))
+        self.assertEqual(tours_many(house), 300)
+        told = tours(house)
+        self.assertEqual((len(told), told), (300, sorted(told)))
+        self.assertTrue(all(is_tour(house, tour) for tour in told))
+        self.assertEqual([tour_at(house, number) for number in (0, 77, 299)], [told[0], told[77], told[299]])
+        more = ((6, 2), (2, 5, 5), (4, 6), (1, 1), (5, 3), (0, 0, 1), (3, 4))
+        self.assertEqual(refusal(tours, more), (TooGreat, {"many": 304, "most": 300}))
+
     def test_by_number_beyond_three_hundred(self):
         house = ((0, 1, 1, 2, 0), (0, 2, 1, 0), (1, 2, 2, 0))
         right = all_tours(house)

@@ -115,7 +115,7 @@ def is_ring_without(house, arrows, room, thing):
 
 def why_not_holds(house, arrows, room, thing):
     refuse_no_shut_state(house, arrows, room)
-    if not is_tuple_within(thing, 2, 2) or not isinstance(thing[0], str):
+    if not is_tuple_within(thing, 2, 2):
         return False
     if thing[0] == "gone":
         return is_gone(house, room, thing[1])
